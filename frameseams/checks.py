@@ -1,0 +1,32 @@
+"""What several modules ask of their arguments."""
+
+from frameseams.errors import InvalidHop, InvalidNumber
+
+MOST_ENTRIES = 200
+GREATEST_HOP = 1000
+
+
+def is_integer(thing):
+    # For Python a boolean is an integer too; for this package it is none.
+    return isinstance(thing, int) and not isinstance(thing, bool)
+
+
+def is_within(thing, least, most):
+    return is_integer(thing) and least <= thing <= most
+
+
+def is_integer_list(thing, most):
+    """Whether thing is a list of 1 to most integers."""
+    if not isinstance(thing, list):
+        return False
+    return 1 <= len(thing) <= most and all([is_integer(entry) for entry in thing])
+
+
+def need_hop(hop, most=GREATEST_HOP):
+    if not is_within(hop, 1, most):
+        raise InvalidHop(f"the hop is no integer from 1 to {most}")
+
+
+def need_number(number, least, most):
+    if not is_within(number, least, most):
+        raise InvalidNumber(f"the number is no integer from {least} to {most}")

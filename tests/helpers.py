@@ -1,0 +1,81 @@
+"""What several tests share: wrong arguments, plain sums, and what a call did."""
+
+import copy
+
+from frameseams import errors
+
+LONG = 10 ** 29 + 7
+ENDS_AT_200 = [3] + [0] * 198 + [-5]
+
+
+def wrong_windows():
+    """Objects of every kind that are no windows, new ones for each call."""
+    deep = [1]
+    for _ in range(18):
+        deep = [deep]
+    return [
+        None, True, False, 0, 1, -7, LONG, "", "1 2 2 1", "window",
+        (), (1,), (1, 2, 2, 1), {}, {"a": 1}, {"a": [1, 2]},
+        [], [0], [0, 0, 0], [0] * 200, [1] * 201, [0] * 200 + [1], [1] * 4000,
+        [True], [False], [1, True], [False, 1], [1, 2, False, 3], [True] * 200, [1] * 199 + [True],
+        [None], [1, None], ["1"], [1, "2"], [1, ""], [[1, 2]], [1, [2]], [[]], [1, []], [1, (2,)], [1, ()],
+        [1, {}], [{"a": 1}], deep, {"a": deep}, (deep,),
+        errors.SeamError("x"), errors.NotEven(0, 1), [1, errors.InvalidHop("x")],
+    ]
+
+
+def some_wrong_windows():
+    """One object of each kind, for calls with several wrong arguments."""
+    return [None, True, (1, 2), "12", [], [0, 0], [1, True], [1] * 201, {"a": [1]}]
+
+
+def outcome(call, *args, **named):
+    """("value", what the call returned), or ("error", the class of what it raised)."""
+    try:
+        return ("value", call(*args, **named))
+    except ValueError as why:
+        return ("error", type(why))
+
+
+def lists_in(value):
+    """All lists inside a value, itself included, each as often as it stands there."""
+    found = [value] if isinstance(value, list) else []
+    if isinstance(value, (list, tuple)):
+        for part in value:
+            found.extend(lists_in(part))
+    return found
+
+
+def spoil(value):
+    """Changes every list in a value."""
+    for one in lists_in(value):
+        one.append("spoilt")
+        one[0] = "spoilt"
+
+
+def same(left, right):
+    """Equal, and of the same types throughout (True is not 1 here)."""
+    return left == right and repr(left) == repr(right)
+
+
+def plain_sums(window, hop):
+    sums = [0] * hop
+    for number in range(len(window)):
+        sums[number % hop] += window[number]
+    return sums
+
+
+def plain_hops(window):
+    """All hops of the window, by trying every hop that there is."""
+    return [hop for hop in range(1, 1001) if len(set(plain_sums(window, hop))) == 1]
+
+
+def plain_product(window, other):
+    entries = []
+    for k in range(len(window) + len(other) - 1):
+        entries.append(sum(window[i] * other[k - i] for i in range(len(window)) if 0 <= k - i < len(other)))
+    return entries
+
+
+def kept(value):
+    return copy.deepcopy(value)

@@ -1,0 +1,92 @@
+"""The form of the package's files: the rules of the language that can be read off them."""
+
+import ast
+import builtins
+import os
+import unittest
+
+FOLDER = os.path.join(os.path.dirname(os.path.dirname(os.path.abspath(__file__))), "frameseams")
+BUILTINS = """len range enumerate zip min max sum abs sorted reversed int str bool list tuple dict set isinstance ord
+repr any all divmod pow super ValueError TypeError KeyError IndexError""".split()
+LIBRARY = ["math", "heapq", "itertools", "collections"]
+
+
+def files():
+    return sorted(name for name in os.listdir(FOLDER) if name != "__pycache__")
+
+
+def text_of(name):
+    with open(os.path.join(FOLDER, name), encoding="ascii") as file:
+        return file.read()
+
+
+def imports_of(name):
+    return [node for node in ast.parse(text_of(name)).body if isinstance(node, (ast.Import, ast.ImportFrom))]
+
+
+def names_made(tree):
+    """The names that the module level of a file binds, without its imports."""
+    made = []
+    for node in tree.body:
+        if isinstance(node, (ast.FunctionDef, ast.ClassDef)):
+            made.append(node.name)
+        if isinstance(node, ast.Assign):
+            made.extend(target.id for target in node.targets)
+    return made
+
+
+class Form(unittest.TestCase):
+    def test_nothing_but_python_files(self):
+        self.assertIn("__init__.py", files())
+        for name in files():
+            self.assertTrue(name.endswith(".py") and name == name.lower(), name)
+
+    def test_sizes_and_characters(self):
+        for name in files():
+            lines = text_of(name).split("\n")
+            self.assertLessEqual(len(lines), 400, name)
+            for line in lines:
+                self.assertLessEqual(len(line), 120, name)
+                self.assertTrue(all(" " <= sign <= "~" for sign in line), name)
+            for node in ast.walk(ast.parse(text_of(name))):
+                if isinstance(node, ast.FunctionDef):
+                    self.assertLessEqual(node.end_lineno - node.lineno + 1, 40, node.name)
+
+    def test_imports_come_from_the_defining_file(self):
+        for name in files():
+            for node in imports_of(name):
+                self.assertIsInstance(node, ast.ImportFrom, name)
+                if node.module in LIBRARY:
+                    continue
+                package, _, file = node.module.partition(".")
+                self.assertEqual((package, node.level), ("frameseams", 0))
+                made = names_made(ast.parse(text_of(file + ".py")))
+                for one in node.names:
+                    self.assertIn(one.name, made)
+
+    def test_no_two_files_import_from_each_other(self):
+        needs = {name: [node.module.partition(".")[2] + ".py" for node in imports_of(name)] for name in files()}
+        self.assertEqual(needs["__init__.py"], [])
+        done = []
+        while len(done) < len(needs):
+            waiting = [name for name in needs if name not in done]
+            ready = [name for name in waiting if not any(one in waiting for one in needs[name])]
+            self.assertTrue(ready, "a circle of imports")
+            done.extend(ready)
+
+    def test_builtins_and_expressions(self):
+        barred = (ast.GeneratorExp, ast.Div, ast.AsyncFunctionDef, ast.Global)
+        for name in files():
+            tree = ast.parse(text_of(name))
+            for node in ast.walk(tree):
+                self.assertNotIsInstance(node, barred, name)
+                if isinstance(node, ast.Constant):
+                    self.assertNotIsInstance(node.value, (float, complex), name)
+                if isinstance(node, ast.Name) and hasattr(builtins, node.id):
+                    self.assertIn(node.id, BUILTINS, name)
+                if isinstance(node, ast.arg):
+                    self.assertNotIn(node.arg, BUILTINS, name)
+
+
+if __name__ == "__main__":
+    unittest.main()
