@@ -4,6 +4,7 @@ from frameseams.errors import InvalidHop, InvalidNumber
 
 MOST_ENTRIES = 200
 GREATEST_HOP = 1000
+GREATEST_MARK = 1000
 
 
 def is_integer(thing):
@@ -22,11 +23,20 @@ def is_integer_list(thing, most):
     return 1 <= len(thing) <= most and all([is_integer(entry) for entry in thing])
 
 
-def need_hop(hop, most=GREATEST_HOP):
-    if not is_within(hop, 1, most):
-        raise InvalidHop(f"the hop is no integer from 1 to {most}")
+def need_hop(hop, least=1, most=GREATEST_HOP):
+    if not is_within(hop, least, most):
+        raise InvalidHop(f"the hop is no integer from {least} to {most}")
+
+
+def need_integer(number):
+    if not is_integer(number):
+        raise InvalidNumber("the number is no integer")
 
 
 def need_number(number, least, most):
     if not is_within(number, least, most):
         raise InvalidNumber(f"the number is no integer from {least} to {most}")
+
+
+def need_mark(mark):
+    need_number(mark, 2, GREATEST_MARK)

@@ -1,6 +1,7 @@
 """Rest sums of windows, and the hops at which windows are even."""
 
 from frameseams.checks import need_hop
+from frameseams.entries import sums_at
 from frameseams.errors import NotEven
 from frameseams.windows import need_window
 
@@ -9,7 +10,7 @@ def rest_sums(window, hop):
     """The list of hop sums: at r of the entries whose number leaves the rest r."""
     need_window(window)
     need_hop(hop)
-    return [sum(window[rest::hop]) for rest in range(hop)]
+    return sums_at(window, hop)
 
 
 def is_even(window, hop):
@@ -26,11 +27,15 @@ def uneven_rests(window, hop):
     return None
 
 
-def level_at(window, hop):
-    """The number that all rest sums are; NotEven if they differ."""
+def need_even(window, hop):
     pair = uneven_rests(window, hop)
     if pair is not None:
         raise NotEven(pair[0], pair[1])
+
+
+def level_at(window, hop):
+    """The number that all rest sums are; NotEven if they differ."""
+    need_even(window, hop)
     return sum(window[::hop])
 
 

@@ -1,6 +1,7 @@
 """Windows, and windows and lists that are made of them."""
 
 from frameseams.checks import MOST_ENTRIES, is_integer, is_integer_list, need_hop, need_number
+from frameseams.entries import multiplied, spread
 from frameseams.errors import InvalidHop, InvalidNumber, InvalidWindow
 
 MOST_WINDOWS = 8
@@ -24,14 +25,9 @@ def product_of(window, other):
     """The list whose entry k is the sum of all products of entries with numbers that add up to k."""
     need_window(window)
     need_window(other)
-    many = len(window) + len(other) - 1
-    if many > MOST_ENTRIES:
+    if len(window) + len(other) - 1 > MOST_ENTRIES:
         raise InvalidWindow(f"the product has more than {MOST_ENTRIES} entries")
-    entries = [0] * many
-    for i, factor in enumerate(window):
-        for j, entry in enumerate(other):
-            entries[i + j] += factor * entry
-    return entries
+    return multiplied(window, other)
 
 
 def stretched(window, by):
@@ -39,13 +35,9 @@ def stretched(window, by):
     need_window(window)
     if not is_integer(by) or by < 1:
         raise InvalidNumber("a window is stretched by an integer from 1 on")
-    many = (len(window) - 1) * by + 1
-    if many > MOST_ENTRIES:
+    if (len(window) - 1) * by + 1 > MOST_ENTRIES:
         raise InvalidNumber(f"the stretched window has more than {MOST_ENTRIES} entries")
-    entries = [0] * many
-    for i, entry in enumerate(window):
-        entries[i * by] = entry
-    return entries
+    return spread(window, by)
 
 
 def phases_of(window, by):
@@ -61,7 +53,7 @@ def turned_round(window):
 
 
 def flat_window(hop):
-    need_hop(hop, MOST_ENTRIES)
+    need_hop(hop, 1, MOST_ENTRIES)
     return [1] * hop
 
 

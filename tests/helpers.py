@@ -1,6 +1,8 @@
 """What several tests share: wrong arguments, plain sums, and what a call did."""
 
 import copy
+import itertools
+import math
 
 from frameseams import errors
 
@@ -21,6 +23,17 @@ def wrong_windows():
         [None], [1, None], ["1"], [1, "2"], [1, ""], [[1, 2]], [1, [2]], [[]], [1, []], [1, (2,)], [1, ()],
         [1, {}], [{"a": 1}], deep, {"a": deep}, (deep,),
         errors.SeamError("x"), errors.NotEven(0, 1), [1, errors.InvalidHop("x")],
+    ]
+
+
+def wrong_lists_of_hops():
+    """Objects of every kind that are no lists of hops, new ones for each call."""
+    return [
+        None, True, False, 0, 1, 6, LONG, "", "4 6", (), (4, 6), {}, {"a": 4}, {"a": [4]},
+        [], [0], [4, 0], [-1], [4, -6], [1001], [4, 1001], [LONG], [True], [4, True], [False], [1, 2, 3, False],
+        [None], [4, None], ["4"], [4, "6"], [[4, 6]], [4, [6]], [4, []], [4, (6,)], [4, {}],
+        [1] * 7, [2, 3, 4, 5, 6, 7, 8], [1] * 4000, [201], [199, 3], [997], [1000], [1, 1, 1, 1, 1, 1000],
+        errors.SeamError("x"), [4, errors.NotEven(0, 1)],
     ]
 
 
@@ -75,6 +88,50 @@ def plain_product(window, other):
     for k in range(len(window) + len(other) - 1):
         entries.append(sum(window[i] * other[k - i] for i in range(len(window)) if 0 <= k - i < len(other)))
     return entries
+
+
+def plain_primes(number):
+    return [p for p in range(2, number + 1) if number % p == 0 and all(p % q != 0 for q in range(2, p))]
+
+
+def plain_phi(number):
+    return sum(1 for other in range(1, number + 1) if math.gcd(other, number) == 1)
+
+
+def plain_divisors(numbers):
+    """All divisors of the numbers, 1 included, ascending."""
+    return sorted({d for number in numbers for d in range(1, number + 1) if number % d == 0})
+
+
+def plain_moment(window, power):
+    return [number ** power * entry for number, entry in enumerate(window)]
+
+
+def plain_crossing(sums, primes, rest):
+    """The crossing at the rest by its words: over all sets of primes, with the rest sums at the mark."""
+    mark = len(sums)
+    total = 0
+    for many in range(len(primes) + 1):
+        for chosen in itertools.combinations(primes, many):
+            total += (-1) ** many * sums[(rest + sum(mark // p for p in chosen)) % mark]
+    return total
+
+
+def plain_first_crossing(window, mark):
+    sums, primes = plain_sums(window, mark), plain_primes(mark)
+    for rest in range(mark):
+        if plain_crossing(sums, primes, rest) != 0:
+            return rest
+    return None
+
+
+def least_uneven(window, hop):
+    """The least tuple of rests with different sums, by going over all tuples in their sequence; or None."""
+    sums = plain_sums(window, hop)
+    for pair in itertools.combinations(range(hop), 2):
+        if sums[pair[0]] != sums[pair[1]]:
+            return pair
+    return None
 
 
 def kept(value):

@@ -9,6 +9,9 @@ FOLDER = os.path.join(os.path.dirname(os.path.dirname(os.path.abspath(__file__))
 BUILTINS = """len range enumerate zip min max sum abs sorted reversed int str bool list tuple dict set isinstance ord
 repr any all divmod pow super ValueError TypeError KeyError IndexError""".split()
 LIBRARY = ["math", "heapq", "itertools", "collections"]
+METHODS = """append clear copy count endswith extend find get index insert isalnum isalpha isdigit islower isspace
+isupper items join keys ljust lower lstrip partition pop remove replace reverse rfind rjust rpartition rsplit rstrip
+setdefault split splitlines startswith strip update upper values zfill bit_length __init__""".split()
 
 
 def files():
@@ -22,6 +25,15 @@ def text_of(name):
 
 def imports_of(name):
     return [node for node in ast.parse(text_of(name)).body if isinstance(node, (ast.Import, ast.ImportFrom))]
+
+
+def locals_of(function):
+    """The names of the parameters and variables of a function, those of comprehensions and lambdas included."""
+    names = [node.arg for node in ast.walk(function) if isinstance(node, ast.arg)]
+    for node in ast.walk(function):
+        if isinstance(node, ast.Name) and isinstance(node.ctx, ast.Store):
+            names.append(node.id)
+    return names
 
 
 def names_made(tree):
@@ -73,6 +85,27 @@ class Form(unittest.TestCase):
             ready = [name for name in waiting if not any(one in waiting for one in needs[name])]
             self.assertTrue(ready, "a circle of imports")
             done.extend(ready)
+
+    def test_names_of_variables(self):
+        for name in files():
+            tree = ast.parse(text_of(name))
+            barred = {one.name for node in imports_of(name) for one in node.names}
+            barred |= {node.name for node in tree.body if isinstance(node, ast.ClassDef)}
+            barred |= {*dir(builtins), "elements", "register", "law", "mro"}
+            for node in ast.walk(tree):
+                if isinstance(node, ast.FunctionDef):
+                    self.assertFalse(barred & {*locals_of(node)}, (name, node.name))
+
+    def test_methods_strings_and_powers(self):
+        for name in files():
+            tree = ast.parse(text_of(name))
+            for node in ast.walk(tree):
+                if isinstance(node, ast.Call) and isinstance(node.func, ast.Attribute):
+                    self.assertIn(node.func.attr, METHODS, name)
+                if isinstance(node, ast.Constant) and isinstance(node.value, str):
+                    self.assertNotIn("%", node.value, name)
+                if isinstance(node, ast.BinOp) and isinstance(node.op, ast.Pow):
+                    self.assertIsInstance(node.right, ast.Constant, name)
 
     def test_builtins_and_expressions(self):
         barred = (ast.GeneratorExp, ast.Div, ast.AsyncFunctionDef, ast.Global)

@@ -4,9 +4,11 @@ import inspect
 import itertools
 import unittest
 
-from frameseams import rests, windows
-from frameseams.errors import InvalidHop, InvalidNumber, InvalidWindow
-from helpers import LONG, kept, lists_in, outcome, same, some_wrong_windows, spoil
+from frameseams import counts, divisors, marks, partners, rests, windows
+from frameseams.errors import InvalidHop, InvalidHops, InvalidIndex, InvalidNumber, InvalidWindow
+from helpers import (
+    LONG, kept, lists_in, outcome, same, some_wrong_windows, spoil, wrong_lists_of_hops, wrong_windows,
+)
 
 SAMPLES = [[1], [1, 2, 2, 1], [0, -3, 0], [LONG, -LONG], [1] * 20]
 
@@ -19,9 +21,18 @@ def wrong_numbers(least, most):
     return [least - 1, most + 1, -LONG, LONG, True, False]
 
 
-# For each function: its file, its arguments, the error of each one, wrong values and values that may be passed.
+def some_wrong_lists_of_hops():
+    return [None, True, (2, 3), "2 3", [], [2, True], [2, [3]], [1] * 7, [201], [0], {"a": [2]}]
+
+
+# For each function: its arguments, the error of each one, and wrong values for it.
 WINDOW = (InvalidWindow, some_wrong_windows)
 HOP = (InvalidHop, lambda: wrong_numbers(1, 1000))
+HOPS = (InvalidHops, some_wrong_lists_of_hops)
+MARK = (InvalidNumber, lambda: wrong_numbers(2, 1000))
+LEVEL = (InvalidNumber, lambda: [True, False])
+LENGTH = (InvalidNumber, lambda: wrong_numbers(1, 40))
+MOST = (InvalidNumber, lambda: wrong_numbers(1, 30))
 CALLS = {
     windows.total_of: [("window", *WINDOW)],
     windows.product_of: [("window", *WINDOW), ("other", *WINDOW)],
@@ -39,12 +50,51 @@ CALLS = {
     rests.level_at: [("window", *WINDOW), ("hop", *HOP)],
     rests.hops_of: [("window", *WINDOW)],
     rests.greatest_hop: [("window", *WINDOW)],
+    marks.marks_of: [("window", *WINDOW)],
+    marks.has_mark: [("window", *WINDOW), ("mark", *MARK)],
+    # The mark is 3 where only the rest is wrong.
+    marks.crossing: [("window", *WINDOW), ("mark", *MARK), ("rest", InvalidNumber, lambda: wrong_numbers(0, 2))],
+    marks.first_crossing: [("window", *WINDOW), ("mark", *MARK)],
+    marks.multiplicity: [("window", *WINDOW), ("mark", *MARK)],
+    marks.order_at: [("window", *WINDOW), ("hop", InvalidHop, lambda: wrong_numbers(2, 1000))],
+    marks.moments: [("window", *WINDOW), ("hop", *HOP), ("power", InvalidNumber, lambda: wrong_numbers(0, 20))],
+    divisors.mark_list: [("mark", InvalidNumber, lambda: wrong_numbers(2, 1000) + [211, 997])],
+    divisors.least_window: [("hops", *HOPS)],
+    divisors.sight: [("hops", *HOPS)],
+    divisors.common_hops: [("hops", *HOPS)],
+    divisors.quotient: [("window", *WINDOW), ("hop", *HOP)],
+    divisors.quotient_by: [("window", *WINDOW), ("hops", *HOPS)],
+    divisors.unseen: [("hops", *HOPS)],
+    counts.count_even: [("length", *LENGTH), ("hop", *HOP), ("most", *MOST)],
+    counts.count_at_level: [("length", *LENGTH), ("hop", *HOP), ("most", *MOST), ("level", *LEVEL)],
+    # With the other arguments as they are below there are two windows.
+    counts.nth_even: [
+        ("length", *LENGTH), ("hop", *HOP), ("most", *MOST), ("index", InvalidIndex, lambda: wrong_numbers(0, 1)),
+    ],
+    counts.even_index: [("window", *WINDOW), ("hop", *HOP), ("most", *MOST)],
+    partners.rest_divisors: [("window", *WINDOW), ("hop", *HOP)],
+    partners.least_level: [("window", *WINDOW), ("hop", *HOP)],
+    partners.blocking_rest: [("window", *WINDOW), ("hop", *HOP), ("level", *LEVEL)],
+    partners.has_partner: [("window", *WINDOW), ("hop", *HOP), ("level", *LEVEL)],
+    partners.partner_of: [("window", *WINDOW), ("hop", *HOP), ("level", *LEVEL)],
+    # The window has four entries where only the hop is wrong.
+    partners.least_partner: [
+        ("window", *WINDOW), ("hop", InvalidHop, lambda: wrong_numbers(2, 1000)), ("level", *LEVEL),
+    ],
+    partners.pair_level: [
+        ("window", *WINDOW), ("other", InvalidWindow, lambda: some_wrong_windows() + [[1, 2, 2]]), ("hop", *HOP),
+    ],
+    partners.pair_moves: [("window", *WINDOW), ("hop", *HOP)],
+    partners.free_numbers: [("window", *WINDOW), ("hop", *HOP)],
 }
 NAMES = {call: [name for name, _, _ in places] for call, places in CALLS.items()}
 NAMES[windows.is_window] = ["thing"]
+# Values that may be passed; those with the number 1 go together in all functions.
 GOOD = {
     "thing": SAMPLES + [None, [], (1, 2), {"a": [1]}], "window": SAMPLES, "other": SAMPLES, "by": [1, 2, 5],
     "offset": [0, 1, 4], "hop": [1, 2, 3, 7], "windows": [[[1, 2]], [[1, 2], [3], [0, 1]], [[1, 1]] * 8],
+    "mark": [2, 3, 30, 420], "rest": [0, 1, 2], "power": [0, 1, 3], "hops": [[1], [2, 3], [6, 4], [2, 1, 2]],
+    "length": [1, 2, 5], "most": [1, 2, 4], "index": [0, 1, 5], "level": [0, 2, -6, LONG],
 }
 
 
@@ -69,11 +119,19 @@ class Interface(unittest.TestCase):
                 "laid_over", "laid_in_turn",
             ],
             rests: ["rest_sums", "is_even", "uneven_rests", "level_at", "hops_of", "greatest_hop"],
+            marks: ["marks_of", "has_mark", "crossing", "first_crossing", "multiplicity", "order_at", "moments"],
+            divisors: ["mark_list", "least_window", "sight", "common_hops", "quotient", "quotient_by", "unseen"],
+            counts: ["count_even", "count_at_level", "nth_even", "even_index"],
+            partners: [
+                "rest_divisors", "least_level", "blocking_rest", "has_partner", "partner_of", "least_partner",
+                "pair_level", "pair_moves", "free_numbers",
+            ],
         }
         for module, names in told.items():
             for name in names:
                 self.assertEqual(getattr(module, name).__module__, module.__name__)
                 self.assertIn(getattr(module, name), NAMES)
+        self.assertEqual(len(NAMES), sum(len(names) for names in told.values()))
 
 
 class WrongArguments(unittest.TestCase):
@@ -90,6 +148,17 @@ class WrongArguments(unittest.TestCase):
                 # No subTest: the first failure ends the test, ahead of long numbers that take long if they pass.
                 self.assertEqual(outcome(call, *args), ("error", wrong[0]), (call.__name__, args))
                 self.assertEqual(outcome(call, **named), ("error", wrong[0]), (call.__name__, args))
+
+    def test_any_object_in_each_place_for_one(self):
+        makers = {some_wrong_windows: wrong_windows, some_wrong_lists_of_hops: wrong_lists_of_hops}
+        for call, places in CALLS.items():
+            for at, (_, error, make) in enumerate(places):
+                for wrong in makers.get(make, make)():
+                    args = [GOOD[name][1] for name in NAMES[call]]
+                    args[at] = wrong
+                    before = repr(args)
+                    self.assertEqual(outcome(call, *args), ("error", error), (call.__name__, args))
+                    self.assertEqual(repr(args), before)
 
     def test_arguments_that_are_refused_stay_as_they_were(self):
         for call, places in CALLS.items():
@@ -153,11 +222,28 @@ class GoodArguments(unittest.TestCase):
     def test_what_is_returned_may_be_passed_back(self):
         window = windows.product_of([LONG, 1, LONG], [LONG, -LONG])
         self.assertGreater(window[0], 10 ** 50)
-        for call in NAMES:
-            if NAMES[call][0] in ("window", "thing"):
-                rest = [{"other": [1, 1], "by": 2, "offset": 1, "hop": 1}[name] for name in NAMES[call][1:]]
-                self.assertEqual(outcome(call, window, *rest)[0], "value", call.__name__)
-        self.assertEqual(outcome(windows.laid_in_turn, [window, window], 1)[0], "value")
+        good = {
+            "window": window, "thing": window, "other": window, "by": 2, "offset": 1, "hop": 1, "windows": [window] * 2,
+            "mark": 3, "rest": 1, "power": 20, "hops": [1, 1], "level": partners.least_level(window, 1) * LONG ** 40,
+        }
+        level = partners.least_level(window, 4)
+        own = {marks.order_at: {"hop": 2}, partners.least_partner: {"hop": 4, "level": level}}
+        for call, names in NAMES.items():
+            # The entries of even_index have an upper limit; what remains takes no window.
+            if call != counts.even_index and set(names) <= set(good):
+                named = {name: good[name] for name in names} | own.get(call, {})
+                self.assertEqual(outcome(call, **named)[0], "value", call.__name__)
+
+    def test_returned_values_go_together(self):
+        window = divisors.least_window([4, 6])
+        for hop in divisors.common_hops([4, 6]):
+            self.assertEqual(rests.level_at(divisors.unseen([4, 6]), hop), 0)
+            level = partners.least_level(window, hop)
+            self.assertEqual(partners.pair_level(window, partners.partner_of(window, hop, level), hop), level)
+        index = counts.even_index(counts.nth_even(40, 1, 30, 31 ** 40 - 2), 1, 30)
+        self.assertGreater(index, 10 ** 58)
+        self.assertEqual(counts.nth_even(40, 1, 30, index), [30] * 40)
+        self.assertEqual(counts.count_at_level(40, 1, 30, index), 0)
 
 
 if __name__ == "__main__":

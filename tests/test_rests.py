@@ -7,7 +7,9 @@ import unittest
 from frameseams.errors import InvalidHop, InvalidWindow, NotEven
 from frameseams.rests import greatest_hop, hops_of, is_even, level_at, rest_sums, uneven_rests
 from frameseams.windows import flat_window, product_of
-from helpers import ENDS_AT_200, LONG, outcome, plain_hops, plain_sums, some_wrong_windows, wrong_windows
+from helpers import (
+    ENDS_AT_200, LONG, least_uneven, outcome, plain_hops, plain_sums, some_wrong_windows, wrong_windows,
+)
 
 AT_A_HOP = [rest_sums, is_even, uneven_rests, level_at]
 ALONE = [hops_of, greatest_hop]
@@ -25,15 +27,6 @@ def small_windows():
         for entries in itertools.product((-1, 0, 1, 2), repeat=many):
             if any(entries):
                 yield [*entries]
-
-
-def least_uneven(window, hop):
-    """The least tuple, by going over all tuples in their sequence."""
-    sums = plain_sums(window, hop)
-    for pair in itertools.combinations(range(hop), 2):
-        if sums[pair[0]] != sums[pair[1]]:
-            return pair
-    return None
 
 
 def all_equal(window, hop):
