@@ -1,6 +1,6 @@
 """What several modules ask of their arguments."""
 
-from frameseams.errors import InvalidHop, InvalidNumber
+from frameseams.errors import InvalidHop, InvalidList, InvalidNumber
 
 MOST_ENTRIES = 200
 GREATEST_HOP = 1000
@@ -16,16 +16,21 @@ def is_within(thing, least, most):
     return is_integer(thing) and least <= thing <= most
 
 
-def is_integer_list(thing, most):
-    """Whether thing is a list of 1 to most integers."""
+def is_integer_list(thing, most, least=1):
+    """Whether thing is a list of least to most integers."""
     if not isinstance(thing, list):
         return False
-    return 1 <= len(thing) <= most and all([is_integer(entry) for entry in thing])
+    return least <= len(thing) <= most and all([is_integer(entry) for entry in thing])
 
 
 def need_hop(hop, least=1, most=GREATEST_HOP):
     if not is_within(hop, least, most):
         raise InvalidHop(f"the hop is no integer from {least} to {most}")
+
+
+def need_list(thing, most, least=1):
+    if not is_integer_list(thing, most, least):
+        raise InvalidList(f"no list of {least} to {most} integers")
 
 
 def need_integer(number):

@@ -18,6 +18,16 @@ def spread(entries, by):
     return longer
 
 
+def laid(pieces, length):
+    """The sums at 0 to length - 1 of lists at their places; each piece is a tuple of a list's begin and the list."""
+    sums = [0] * length
+    for begin, entries in pieces:
+        for i, entry in enumerate(entries):
+            if 0 <= begin + i < length:
+                sums[begin + i] += entry
+    return sums
+
+
 def multiplied(entries, others):
     """The list whose entry k is the sum of all products of entries with numbers that add up to k."""
     longer = [0] * (len(entries) + len(others) - 1)

@@ -1,7 +1,7 @@
 """Windows, and windows and lists that are made of them."""
 
 from frameseams.checks import MOST_ENTRIES, is_integer, is_integer_list, need_hop, need_number
-from frameseams.entries import multiplied, spread
+from frameseams.entries import laid, multiplied, spread
 from frameseams.errors import InvalidHop, InvalidNumber, InvalidWindow
 
 MOST_WINDOWS = 8
@@ -90,10 +90,7 @@ def _end_of(windows, step):
 
 
 def _sum_of_moved(windows, step):
-    entries = [0] * _end_of(windows, step)
-    for j, window in enumerate(windows):
-        for i, entry in enumerate(window):
-            entries[j * step + i] += entry
+    entries = laid([(j * step, window) for j, window in enumerate(windows)], _end_of(windows, step))
     if not any(entries):
         raise InvalidWindow("the sum has only zeros")
     return entries

@@ -4,7 +4,7 @@ import copy
 import itertools
 import math
 
-from frameseams import errors
+from frameseams import blocks, errors
 
 LONG = 10 ** 29 + 7
 ENDS_AT_200 = [3] + [0] * 198 + [-5]
@@ -22,8 +22,32 @@ def wrong_windows():
         [True], [False], [1, True], [False, 1], [1, 2, False, 3], [True] * 200, [1] * 199 + [True],
         [None], [1, None], ["1"], [1, "2"], [1, ""], [[1, 2]], [1, [2]], [[]], [1, []], [1, (2,)], [1, ()],
         [1, {}], [{"a": 1}], deep, {"a": deep}, (deep,),
-        errors.SeamError("x"), errors.NotEven(0, 1), [1, errors.InvalidHop("x")],
+        errors.SeamError("x"), errors.NotEven(0, 1), [1, errors.InvalidHop("x")], a_deck(), [a_deck()], [1, a_deck()],
     ]
+
+
+def a_deck():
+    """A deck of one kind, new for each call."""
+    return blocks.Deck(1, [[1]], [(0, 1, 0)])
+
+
+def wrong_lists():
+    """Objects of every kind that are no lists of integers, new ones for each call; the empty list is not among them."""
+    deep = [1]
+    for _ in range(18):
+        deep = [deep]
+    return [
+        None, True, False, 0, 1, -7, LONG, "", "1 2", "12", (), (1,), (1, 2), (0, 0), {}, {"a": 1}, {"a": [1, 2]},
+        [True], [False], [1, True], [False, 1], [0, 2, False, 3], [True] * 200, [1] * 199 + [True],
+        [None], [1, None], [None, 1], ["1"], [1, "2"], ["", 1], [[1, 2]], [[1], [2]], [1, [2]], [[]], [1, []],
+        [1, (2,)], [(1,), 2], [1, ()], [1, {}], [{"a": 1}], deep, [1, deep], {"a": deep}, (deep,),
+        errors.SeamError("x"), errors.NotEven(0, 1), [1, errors.InvalidHop("x")], a_deck(), [a_deck()], [1, a_deck()],
+    ]
+
+
+def some_wrong_lists():
+    """One object of each kind that is no list of 1 to 4,000 integers, for calls with several wrong arguments."""
+    return [None, True, (1, 2), "12", [], [1, True], [[1]], {"a": [1]}, a_deck()]
 
 
 def wrong_lists_of_hops():
@@ -51,8 +75,10 @@ def outcome(call, *args, **named):
 
 
 def lists_in(value):
-    """All lists inside a value, itself included, each as often as it stands there."""
+    """All lists inside a value, itself included, each as often as it stands there; of objects, those that they tell."""
     found = [value] if isinstance(value, list) else []
+    if isinstance(value, blocks.Deck):
+        return lists_in(value.edges) + lists_in(value.kinds)
     if isinstance(value, (list, tuple)):
         for part in value:
             found.extend(lists_in(part))
@@ -66,9 +92,18 @@ def spoil(value):
         one[0] = "spoilt"
 
 
+def shown(value):
+    """The value with what objects tell in their places."""
+    if isinstance(value, blocks.Deck):
+        return ("Deck", value.level, value.edges, value.kinds)
+    if isinstance(value, (list, tuple)):
+        return type(value)(shown(part) for part in value)
+    return value
+
+
 def same(left, right):
     """Equal, and of the same types throughout (True is not 1 here)."""
-    return left == right and repr(left) == repr(right)
+    return shown(left) == shown(right) and repr(shown(left)) == repr(shown(right))
 
 
 def plain_sums(window, hop):

@@ -7,7 +7,7 @@ import unittest
 
 FOLDER = os.path.join(os.path.dirname(os.path.dirname(os.path.abspath(__file__))), "frameseams")
 BUILTINS = """len range enumerate zip min max sum abs sorted reversed int str bool list tuple dict set isinstance ord
-repr any all divmod pow super ValueError TypeError KeyError IndexError""".split()
+repr any all divmod pow super property ValueError TypeError KeyError IndexError""".split()
 LIBRARY = ["math", "heapq", "itertools", "collections"]
 METHODS = """append clear copy count endswith extend find get index insert isalnum isalpha isdigit islower isspace
 isupper items join keys ljust lower lstrip partition pop remove replace reverse rfind rjust rpartition rsplit rstrip
@@ -34,6 +34,22 @@ def locals_of(function):
         if isinstance(node, ast.Name) and isinstance(node.ctx, ast.Store):
             names.append(node.id)
     return names
+
+
+def classes():
+    """All classes of the package."""
+    nodes = [node for name in files() for node in ast.parse(text_of(name)).body]
+    return [node for node in nodes if isinstance(node, ast.ClassDef)]
+
+
+def methods_of(owner):
+    return [node for node in owner.body if isinstance(node, ast.FunctionDef)]
+
+
+def attributes_of(owner):
+    """The names of the attributes that the methods of a class assign."""
+    found = [node for node in ast.walk(owner) if isinstance(node, ast.Attribute)]
+    return {node.attr for node in found if isinstance(node.ctx, ast.Store)}
 
 
 def names_made(tree):
@@ -97,15 +113,63 @@ class Form(unittest.TestCase):
                     self.assertFalse(barred & {*locals_of(node)}, (name, node.name))
 
     def test_methods_strings_and_powers(self):
+        own = [method.name for owner in classes() for method in methods_of(owner)]
         for name in files():
             tree = ast.parse(text_of(name))
             for node in ast.walk(tree):
                 if isinstance(node, ast.Call) and isinstance(node.func, ast.Attribute):
-                    self.assertIn(node.func.attr, METHODS, name)
+                    self.assertIn(node.func.attr, METHODS + own, name)
                 if isinstance(node, ast.Constant) and isinstance(node.value, str):
                     self.assertNotIn("%", node.value, name)
                 if isinstance(node, ast.BinOp) and isinstance(node.op, ast.Pow):
                     self.assertIsInstance(node.right, ast.Constant, name)
+
+    def test_classes(self):
+        for owner in classes():
+            names = [method.name for method in methods_of(owner)]
+            self.assertEqual(len(names), len({*names}), owner.name)
+            self.assertFalse({*names} & attributes_of(owner), owner.name)
+            for method in methods_of(owner):
+                if method.name.startswith("__"):
+                    self.assertIn(method.name, ["__init__", "__eq__", "__len__"])
+                self.assertLessEqual(len(method.decorator_list), 1)
+                for one in method.decorator_list:
+                    self.assertEqual(one.id, "property")
+        properties = {method.name for owner in classes() for method in methods_of(owner) if method.decorator_list}
+        plain = {method.name for owner in classes() for method in methods_of(owner) if not method.decorator_list}
+        self.assertFalse(properties & (plain | {*METHODS}))
+        # A class that tells its length or compares bars sorting on the spot, and a method add bars sets that grow.
+        for name in files():
+            for node in ast.walk(ast.parse(text_of(name))):
+                if isinstance(node, ast.Call) and isinstance(node.func, ast.Attribute):
+                    self.assertNotIn(node.func.attr, ["sort", "discard"], name)
+                self.assertNotIsInstance(node, (ast.Set, ast.SetComp), name)
+
+    def test_decorators_stand_over_methods_alone(self):
+        for name in files():
+            tree = ast.parse(text_of(name))
+            for node in tree.body:
+                if isinstance(node, (ast.FunctionDef, ast.ClassDef)):
+                    self.assertEqual(node.decorator_list, [], name)
+            for node in ast.walk(tree):
+                if isinstance(node, ast.FunctionDef):
+                    inner = [one for one in ast.walk(node) if isinstance(one, (ast.FunctionDef, ast.ClassDef))]
+                    self.assertEqual(inner, [node], name)
+
+    def test_errors_are_made_on_the_spot(self):
+        for name in files():
+            for node in ast.walk(ast.parse(text_of(name))):
+                if isinstance(node, ast.Raise):
+                    self.assertIsInstance(node.exc, ast.Call, name)
+                    self.assertTrue(node.exc.func.id[0].isupper() and node.cause is None, name)
+                if isinstance(node, ast.ExceptHandler):
+                    self.assertIn(node.type.id, [owner.name for owner in classes()], name)
+
+    def test_barred_words(self):
+        for name in files():
+            for node in ast.walk(ast.parse(text_of(name))):
+                word = getattr(node, "id", getattr(node, "attr", None))
+                self.assertNotIn(word, ["type", "__class__", "__name__", "__dict__", "args", "format", "chr"], name)
 
     def test_builtins_and_expressions(self):
         barred = (ast.GeneratorExp, ast.Div, ast.AsyncFunctionDef, ast.Global)

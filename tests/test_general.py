@@ -4,10 +4,15 @@ import inspect
 import itertools
 import unittest
 
-from frameseams import counts, divisors, marks, partners, rests, windows
-from frameseams.errors import InvalidHop, InvalidHops, InvalidIndex, InvalidNumber, InvalidWindow
+from decks import wrong_streams
+from frameseams import blocks, counts, divisors, lists, marks, partners, rests, streams, windows
+from frameseams.blocks import Deck
+from frameseams.errors import (
+    InvalidDeck, InvalidHop, InvalidHops, InvalidIndex, InvalidList, InvalidNumber, InvalidStream, InvalidWindow,
+)
 from helpers import (
-    LONG, kept, lists_in, outcome, same, some_wrong_windows, spoil, wrong_lists_of_hops, wrong_windows,
+    LONG, a_deck, kept, lists_in, outcome, same, some_wrong_lists, some_wrong_windows, spoil, wrong_lists,
+    wrong_lists_of_hops, wrong_windows,
 )
 
 SAMPLES = [[1], [1, 2, 2, 1], [0, -3, 0], [LONG, -LONG], [1] * 20]
@@ -25,6 +30,27 @@ def some_wrong_lists_of_hops():
     return [None, True, (2, 3), "2 3", [], [2, True], [2, [3]], [1] * 7, [201], [0], {"a": [2]}]
 
 
+def some_wrong_streams():
+    return [None, True, (0,), "0", [], [True], [[0]], [0, 0], [6], [4] * 401, {"a": [0]}, a_deck()]
+
+
+def wrong_levels_of_decks():
+    return [None, True, False, "1", "", [], [1], (1,), {}, {"a": 1}, a_deck()]
+
+
+def wrong_edges():
+    return [
+        None, True, "1", 1, (), ((1,),), [], [1], [[1], None], [(1,)], [[True]], [[1] * 61], [[]] * 21, {}, a_deck(),
+    ]
+
+
+def wrong_kinds():
+    return [
+        None, True, "0/1/0", 0, (), (0, 1, 0), [], [[0, 1, 0]], [(0, 1)], [(0, 1, 0, 0)], [(0, True, 0)], [(4, 1, 0)],
+        [(0, 1, -1)], [(0, 101, 0)], [(3, 0, 0)], [(0, 1, 0)] * 31, [None], {}, a_deck(),
+    ]
+
+
 # For each function: its arguments, the error of each one, and wrong values for it.
 WINDOW = (InvalidWindow, some_wrong_windows)
 HOP = (InvalidHop, lambda: wrong_numbers(1, 1000))
@@ -33,6 +59,15 @@ MARK = (InvalidNumber, lambda: wrong_numbers(2, 1000))
 LEVEL = (InvalidNumber, lambda: [True, False])
 LENGTH = (InvalidNumber, lambda: wrong_numbers(1, 40))
 MOST = (InvalidNumber, lambda: wrong_numbers(1, 30))
+SUMS = (InvalidList, lambda: some_wrong_lists() + [[0] * 201])
+SHORT_HOP = (InvalidHop, lambda: wrong_numbers(1, 200))
+# A deck is always one; the numbers of its edges and kinds are those of the deck that is the second good one below.
+DECK = (None, lambda: [])
+EDGE = (InvalidNumber, lambda: wrong_numbers(0, 3))
+KIND = (InvalidNumber, lambda: wrong_numbers(0, 5))
+STEPS = (InvalidNumber, lambda: wrong_numbers(1, 400))
+STREAM = (InvalidStream, some_wrong_streams)
+AT_STEPS = [("deck", *DECK), ("rise", *EDGE), ("fall", *EDGE), ("steps", *STEPS)]
 CALLS = {
     windows.total_of: [("window", *WINDOW)],
     windows.product_of: [("window", *WINDOW), ("other", *WINDOW)],
@@ -86,12 +121,59 @@ CALLS = {
     ],
     partners.pair_moves: [("window", *WINDOW), ("hop", *HOP)],
     partners.free_numbers: [("window", *WINDOW), ("hop", *HOP)],
+    # Where only by, length, first or second is wrong, sums has two entries, and hop is 2.
+    lists.folded: [("sums", *SUMS), ("by", InvalidNumber, lambda: [0, -1, 3, -2, 4, LONG, True, False])],
+    lists.agree: [("sums", *SUMS), ("other", *SUMS)],
+    lists.first_clash: [("sums", *SUMS), ("other", *SUMS)],
+    lists.told_back: [("sums", *SUMS), ("other", *SUMS), ("length", InvalidNumber, lambda: wrong_numbers(1, 4))],
+    lists.some_list: [("sums", *SUMS), ("other", *SUMS), ("length", InvalidNumber, lambda: wrong_numbers(1, 400))],
+    lists.has_ring: [
+        ("first", *SHORT_HOP), ("second", *SHORT_HOP), ("length", InvalidNumber, lambda: wrong_numbers(1, 400)),
+    ],
+    lists.ring_of: [("first", *SHORT_HOP), ("second", *SHORT_HOP)],
+    Deck: [
+        ("level", InvalidDeck, wrong_levels_of_decks), ("edges", InvalidDeck, wrong_edges),
+        ("kinds", InvalidDeck, wrong_kinds),
+    ],
+    Deck.window_of: [("self", *DECK), ("kind", *KIND)],
+    Deck.step_of: [("self", *DECK), ("kind", *KIND)],
+    Deck.length_of: [("self", *DECK), ("kind", *KIND)],
+    Deck.follows: [("self", *DECK), ("kind", *KIND), ("next_kind", *KIND)],
+    Deck.followers: [("self", *DECK), ("kind", *KIND)],
+    Deck.steps_of: [("self", *DECK), ("stream", *STREAM)],
+    Deck.sums_of: [("self", *DECK), ("stream", *STREAM)],
+    Deck.reaches: [("self", *DECK), ("rise", *EDGE), ("fall", *EDGE)],
+    streams.count_streams: AT_STEPS,
+    # With the other arguments as they are below there are two streams.
+    streams.nth_stream: AT_STEPS + [("index", InvalidIndex, lambda: wrong_numbers(0, 1))],
+    streams.stream_index: [("deck", *DECK), ("stream", *STREAM)],
+    streams.fewest_blocks: AT_STEPS,
+    streams.a_stream: AT_STEPS,
 }
 NAMES = {call: [name for name, _, _ in places] for call, places in CALLS.items()}
 NAMES[windows.is_window] = ["thing"]
+NAMES[Deck.is_stream] = ["self", "thing"]
+# For each class its methods and its properties.
+CLASSES = {
+    Deck: (
+        [
+            "window_of", "step_of", "length_of", "follows", "followers", "is_stream", "steps_of", "sums_of", "reaches",
+        ],
+        ["level", "edges", "kinds"],
+    ),
+}
+EDGES = [[1], [2], [1], []]
+DECKS = [
+    Deck(LONG, [[]], [(0, 1, 0)]),
+    Deck(7, EDGES, [(0, 0, 1), (1, 0, 2), (2, 1, 3), (3, 1, 0), (3, 1, 3), (1, 0, 1)]),
+]
 # Values that may be passed; those with the number 1 go together in all functions.
 GOOD = {
     "thing": SAMPLES + [None, [], (1, 2), {"a": [1]}], "window": SAMPLES, "other": SAMPLES, "by": [1, 2, 5],
+    "sums": [[6], [3, 3], [0, LONG, -LONG]], "first": [1, 2, 200], "second": [1, 2, 6],
+    "self": DECKS, "deck": DECKS, "kind": [0, 1, 5], "next_kind": [0, 1, 2], "rise": [0, 1, 3], "fall": [0, 1],
+    "stream": [[0], [5, 5, 1], [0, 1, 0, 1]], "steps": [1, 2, 7],
+    "edges": [[[1, 2]], EDGES, [[0] * 60] * 20], "kinds": [[(0, 1, 0)], [(0, 1, 3)] * 30],
     "offset": [0, 1, 4], "hop": [1, 2, 3, 7], "windows": [[[1, 2]], [[1, 2], [3], [0, 1]], [[1, 1]] * 8],
     "mark": [2, 3, 30, 420], "rest": [0, 1, 2], "power": [0, 1, 3], "hops": [[1], [2, 3], [6, 4], [2, 1, 2]],
     "length": [1, 2, 5], "most": [1, 2, 4], "index": [0, 1, 5], "level": [0, 2, -6, LONG],
@@ -126,12 +208,24 @@ class Interface(unittest.TestCase):
                 "rest_divisors", "least_level", "blocking_rest", "has_partner", "partner_of", "least_partner",
                 "pair_level", "pair_moves", "free_numbers",
             ],
+            lists: ["folded", "agree", "first_clash", "told_back", "some_list", "has_ring", "ring_of"],
+            blocks: ["Deck"],
+            streams: ["count_streams", "nth_stream", "stream_index", "fewest_blocks", "a_stream"],
         }
         for module, names in told.items():
             for name in names:
                 self.assertEqual(getattr(module, name).__module__, module.__name__)
                 self.assertIn(getattr(module, name), NAMES)
-        self.assertEqual(len(NAMES), sum(len(names) for names in told.values()))
+        many_methods = sum(len(methods) for methods, _ in CLASSES.values())
+        self.assertEqual(len(NAMES), sum(len(names) for names in told.values()) + many_methods)
+
+    def test_methods_and_properties_stand_in_their_class(self):
+        for owner, (methods, properties) in CLASSES.items():
+            for name in methods:
+                self.assertIn(vars(owner)[name], NAMES)
+            for name in properties:
+                self.assertIsInstance(vars(owner)[name], property)
+        self.assertIn("__eq__", vars(Deck))
 
 
 class WrongArguments(unittest.TestCase):
@@ -150,7 +244,11 @@ class WrongArguments(unittest.TestCase):
                 self.assertEqual(outcome(call, **named), ("error", wrong[0]), (call.__name__, args))
 
     def test_any_object_in_each_place_for_one(self):
-        makers = {some_wrong_windows: wrong_windows, some_wrong_lists_of_hops: wrong_lists_of_hops}
+        makers = {
+            some_wrong_windows: wrong_windows, some_wrong_lists_of_hops: wrong_lists_of_hops,
+            some_wrong_streams: lambda: wrong_streams() + wrong_lists(),
+            SUMS[1]: lambda: wrong_lists() + [[], [0] * 201],
+        }
         for call, places in CALLS.items():
             for at, (_, error, make) in enumerate(places):
                 for wrong in makers.get(make, make)():
@@ -225,12 +323,15 @@ class GoodArguments(unittest.TestCase):
         good = {
             "window": window, "thing": window, "other": window, "by": 2, "offset": 1, "hop": 1, "windows": [window] * 2,
             "mark": 3, "rest": 1, "power": 20, "hops": [1, 1], "level": partners.least_level(window, 1) * LONG ** 40,
+            "sums": window, "length": 4, "edges": [window], "kinds": [(0, 0, 0)], "kind": 0, "next_kind": 0, "rise": 0,
+            "fall": 0, "stream": [0], "steps": 4, "index": 0,
         }
+        good["self"] = good["deck"] = Deck(good["level"], good["edges"], good["kinds"])
         level = partners.least_level(window, 4)
         own = {marks.order_at: {"hop": 2}, partners.least_partner: {"hop": 4, "level": level}}
         for call, names in NAMES.items():
-            # The entries of even_index have an upper limit; what remains takes no window.
-            if call != counts.even_index and set(names) <= set(good):
+            # What remains takes no lists, or only lists whose entries have an upper limit.
+            if set(names) <= set(good):
                 named = {name: good[name] for name in names} | own.get(call, {})
                 self.assertEqual(outcome(call, **named)[0], "value", call.__name__)
 
@@ -244,6 +345,19 @@ class GoodArguments(unittest.TestCase):
         self.assertGreater(index, 10 ** 58)
         self.assertEqual(counts.nth_even(40, 1, 30, index), [30] * 40)
         self.assertEqual(counts.count_at_level(40, 1, 30, index), 0)
+        ring = lists.ring_of(199, 200)
+        sums = rests.rest_sums(lists.told_back([LONG] * 5, [LONG] * 5, 5), 5)
+        self.assertEqual(lists.folded(sums, 1), [5 * LONG])
+        self.assertEqual(lists.some_list(lists.folded(sums, 1), [LONG * 5], 1), [5 * LONG])
+        self.assertEqual(len(ring), 399)
+        deck = Deck(sum(sums), [sums, ring[:60]], [(0, 3, 1), (1, 0, 0)])
+        again = Deck(deck.level, deck.edges, deck.kinds)
+        self.assertEqual(again, deck)
+        total = 5 * LONG + 3 * 5 * LONG + 60 * 5 * LONG - sum(ring[:60])
+        self.assertEqual(rests.rest_sums(again.window_of(0), 1), [total])
+        stream = streams.a_stream(again, 0, 0, 68)
+        self.assertEqual(streams.stream_index(again, stream), 0)
+        self.assertEqual(again.sums_of(stream)[5:68], [5 * LONG] * 63)
 
 
 if __name__ == "__main__":
