@@ -41,7 +41,7 @@ def stream_index(deck, stream):
     """The index of the stream among those with its own ends and steps."""
     steps = deck.steps_of(stream)
     paths = _paths_of(deck)
-    if steps > MOST_BLOCKS * min([step for _, step, _ in paths]):
+    if steps > MOST_BLOCKS * min([path[1] for path in paths]):
         return _index_of_many_steps(stream, steps, paths)
     ways = _ways_to(paths[stream[-1]][2], steps, paths)
     index = 0
@@ -138,26 +138,25 @@ def _fewest_to(end, steps, paths):
 def _index_of_many_steps(stream, steps, paths):
     """The index of a stream whose steps are enough for lists that have more blocks than a stream may have."""
     end = paths[stream[-1]][2]
-    # From the last block that a stream may have: how many ways there are behind it, by the steps left and the edge.
-    ways = {(0, end): 1}
+    ways = {edge: [0] * (steps + 1) for begin, _, goal in paths for edge in (begin, goal)}
     index = 0
     left = 0
+    # From the last block that a stream may have, so that the ways behind each block are those of as many as are left.
     for place in reversed(range(MOST_BLOCKS)):
+        ways = _ways_with_one_more(ways, end, steps, paths)
         if place < len(stream):
             edge, own_step, _ = paths[stream[place]]
             left += own_step
             for begin, step, goal in paths[:stream[place]]:
-                if begin == edge:
-                    index += ways.get((left - step, goal), 0)
-        ways = _ways_with_one_more(ways, end, steps, paths)
+                if begin == edge and step <= left:
+                    index += ways[goal][left - step]
     return index
 
 
 def _ways_with_one_more(ways, end, steps, paths):
-    """The ways to the end that may have one block more than those that were counted."""
-    more = {(0, end): 1}
-    for (left, edge), many in ways.items():
-        for begin, step, goal in paths:
-            if goal == edge and left + step <= steps:
-                more[(left + step, begin)] = more.get((left + step, begin), 0) + many
+    """For each edge a list: at left, how many ways of left steps lead to the end, with one block more than in ways."""
+    more = {edge: [0] * (steps + 1) for edge in ways}
+    more[end][0] = 1
+    for begin, step, goal in paths:
+        more[begin] = [many + added for many, added in zip(more[begin], [0] * step + ways[goal])]
     return more

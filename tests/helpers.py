@@ -4,7 +4,7 @@ import copy
 import itertools
 import math
 
-from frameseams import blocks, errors
+from frameseams import blocks, errors, frames
 
 LONG = 10 ** 29 + 7
 ENDS_AT_200 = [3] + [0] * 198 + [-5]
@@ -23,7 +23,15 @@ def wrong_windows():
         [None], [1, None], ["1"], [1, "2"], [1, ""], [[1, 2]], [1, [2]], [[]], [1, []], [1, (2,)], [1, ()],
         [1, {}], [{"a": 1}], deep, {"a": deep}, (deep,),
         errors.SeamError("x"), errors.NotEven(0, 1), [1, errors.InvalidHop("x")], a_deck(), [a_deck()], [1, a_deck()],
+        a_joiner(), [a_joiner()], [1, a_joiner()],
     ]
+
+
+def a_joiner():
+    """A joiner of one frame, new for each call."""
+    joiner = frames.Joiner(1)
+    joiner.add([1, 2])
+    return joiner
 
 
 def a_deck():
@@ -42,6 +50,7 @@ def wrong_lists():
         [None], [1, None], [None, 1], ["1"], [1, "2"], ["", 1], [[1, 2]], [[1], [2]], [1, [2]], [[]], [1, []],
         [1, (2,)], [(1,), 2], [1, ()], [1, {}], [{"a": 1}], deep, [1, deep], {"a": deep}, (deep,),
         errors.SeamError("x"), errors.NotEven(0, 1), [1, errors.InvalidHop("x")], a_deck(), [a_deck()], [1, a_deck()],
+        a_joiner(), [a_joiner()], [1, a_joiner()],
     ]
 
 
@@ -57,7 +66,7 @@ def wrong_lists_of_hops():
         [], [0], [4, 0], [-1], [4, -6], [1001], [4, 1001], [LONG], [True], [4, True], [False], [1, 2, 3, False],
         [None], [4, None], ["4"], [4, "6"], [[4, 6]], [4, [6]], [4, []], [4, (6,)], [4, {}],
         [1] * 7, [2, 3, 4, 5, 6, 7, 8], [1] * 4000, [201], [199, 3], [997], [1000], [1, 1, 1, 1, 1, 1000],
-        errors.SeamError("x"), [4, errors.NotEven(0, 1)],
+        errors.SeamError("x"), [4, errors.NotEven(0, 1)], a_deck(), [a_deck()], a_joiner(), [4, a_joiner()],
     ]
 
 
@@ -79,6 +88,8 @@ def lists_in(value):
     found = [value] if isinstance(value, list) else []
     if isinstance(value, blocks.Deck):
         return lists_in(value.edges) + lists_in(value.kinds)
+    if isinstance(value, frames.Joiner):
+        return lists_in(value.pending)
     if isinstance(value, (list, tuple)):
         for part in value:
             found.extend(lists_in(part))
@@ -96,6 +107,8 @@ def shown(value):
     """The value with what objects tell in their places."""
     if isinstance(value, blocks.Deck):
         return ("Deck", value.level, value.edges, value.kinds)
+    if isinstance(value, frames.Joiner):
+        return ("Joiner", value.seen, value.ready, value.pending, len(value))
     if isinstance(value, (list, tuple)):
         return type(value)(shown(part) for part in value)
     return value

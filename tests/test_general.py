@@ -5,13 +5,16 @@ import itertools
 import unittest
 
 from decks import wrong_streams
-from frameseams import blocks, counts, divisors, lists, marks, partners, rests, streams, windows
+from frameseams import (
+    blocks, counts, divisors, frames, lists, losses, marks, partners, rests, session, streams, texts, windows,
+)
 from frameseams.blocks import Deck
 from frameseams.errors import (
     InvalidDeck, InvalidHop, InvalidHops, InvalidIndex, InvalidList, InvalidNumber, InvalidStream, InvalidWindow,
 )
+from frameseams.frames import Joiner
 from helpers import (
-    LONG, a_deck, kept, lists_in, outcome, same, some_wrong_lists, some_wrong_windows, spoil, wrong_lists,
+    LONG, a_deck, a_joiner, kept, lists_in, outcome, same, some_wrong_lists, some_wrong_windows, spoil, wrong_lists,
     wrong_lists_of_hops, wrong_windows,
 )
 
@@ -32,6 +35,14 @@ def some_wrong_lists_of_hops():
 
 def some_wrong_streams():
     return [None, True, (0,), "0", [], [True], [[0]], [0, 0], [6], [4] * 401, {"a": [0]}, a_deck()]
+
+
+def some_wrong_lists_of_frames():
+    return [None, True, ([1],), "1", [], [1], [None, True], [[]], [[1], [True]], [[1] * 201], [None] * 801, a_deck()]
+
+
+def some_wrong_lists_of_lost_frames():
+    return [None, True, (1,), "1", 3, [True], [[1]], [1, 1], [2, 1], list(range(401)), {"a": [1]}, a_joiner()]
 
 
 def wrong_levels_of_decks():
@@ -67,6 +78,10 @@ EDGE = (InvalidNumber, lambda: wrong_numbers(0, 3))
 KIND = (InvalidNumber, lambda: wrong_numbers(0, 5))
 STEPS = (InvalidNumber, lambda: wrong_numbers(1, 400))
 STREAM = (InvalidStream, some_wrong_streams)
+SIGNAL = (InvalidList, lambda: some_wrong_lists() + [[1] * 401])
+FRAMES = (InvalidList, some_wrong_lists_of_frames)
+NUMBER = (InvalidNumber, lambda: wrong_numbers(1, 400))
+LOST = (InvalidNumber, lambda: wrong_numbers(0, 400))
 AT_STEPS = [("deck", *DECK), ("rise", *EDGE), ("fall", *EDGE), ("steps", *STEPS)]
 CALLS = {
     windows.total_of: [("window", *WINDOW)],
@@ -149,10 +164,40 @@ CALLS = {
     streams.stream_index: [("deck", *DECK), ("stream", *STREAM)],
     streams.fewest_blocks: AT_STEPS,
     streams.a_stream: AT_STEPS,
+    losses.least_left: [("window", *WINDOW), ("hop", *HOP), ("lost", *LOST)],
+    losses.least_left_run: [("window", *WINDOW), ("hop", *HOP), ("lost", *LOST)],
+    losses.fewest_harm: [
+        ("window", InvalidWindow, lambda: some_wrong_windows() + [[1, -1], [1, 1, -1, -1]]), ("hop", *HOP),
+    ],
+    # Where only the end is wrong, begin is -3.
+    losses.left_sums: [
+        ("window", *WINDOW), ("hop", *HOP), ("lost", InvalidList, some_wrong_lists_of_lost_frames),
+        ("begin", InvalidNumber, lambda: [True, False]),
+        ("end", InvalidNumber, lambda: [-4, 398, LONG, -LONG, True, False]),
+    ],
+    frames.first_frame: [("window", *WINDOW), ("hop", *HOP)],
+    frames.frames_of: [("window", *WINDOW), ("hop", *HOP), ("signal", *SIGNAL)],
+    frames.samples_of: [
+        ("frames", *FRAMES), ("hop", *HOP), ("first", InvalidNumber, lambda: [True, False]), ("number", *NUMBER),
+    ],
+    frames.signal_back: [
+        ("window", *WINDOW), ("hop", *HOP), ("frames", InvalidList, lambda: FRAMES[1]() + [[[1, 2, 3]]]),
+        ("number", *NUMBER),
+    ],
+    Joiner: [("hop", *HOP)],
+    Joiner.add: [("self", *DECK), ("frame", InvalidList, lambda: some_wrong_lists() + [[1] * 201, [1, 2, 3], [1]])],
 }
 NAMES = {call: [name for name, _, _ in places] for call, places in CALLS.items()}
 NAMES[windows.is_window] = ["thing"]
 NAMES[Deck.is_stream] = ["self", "thing"]
+NAMES[Joiner.skip] = NAMES[Joiner.undo] = NAMES[Joiner.twin] = ["self"]
+NAMES[texts.write_list] = ["numbers"]
+NAMES[texts.write_deck] = ["deck"]
+NAMES[texts.read_list] = NAMES[texts.read_deck] = ["text"]
+NAMES[session.session] = ["rows"]
+# Calls that change the object; tests/test_frames.py tells how. All others leave what they are passed as it was.
+CHANGING = [Joiner.add, Joiner.skip, Joiner.undo]
+STEADY = [call for call in NAMES if call not in CHANGING]
 # For each class its methods and its properties.
 CLASSES = {
     Deck: (
@@ -161,6 +206,7 @@ CLASSES = {
         ],
         ["level", "edges", "kinds"],
     ),
+    Joiner: (["add", "skip", "undo", "twin"], ["seen", "ready", "pending"]),
 }
 EDGES = [[1], [2], [1], []]
 DECKS = [
@@ -174,14 +220,34 @@ GOOD = {
     "self": DECKS, "deck": DECKS, "kind": [0, 1, 5], "next_kind": [0, 1, 2], "rise": [0, 1, 3], "fall": [0, 1],
     "stream": [[0], [5, 5, 1], [0, 1, 0, 1]], "steps": [1, 2, 7],
     "edges": [[[1, 2]], EDGES, [[0] * 60] * 20], "kinds": [[(0, 1, 0)], [(0, 1, 3)] * 30],
+    "lost": [0, 1, 400], "begin": [0, -3, LONG], "end": [5, 4, LONG + 2], "signal": [[3], [1, -2, LONG], [0] * 30],
+    "frames": [[[4]], [[1, 2, 2, 1], None, [0, 0, 0, 0]], [None]], "number": [1, 2, 9],
+    "frame": [[5], [7, 8], [0] * 200],
+    "numbers": [[4], [1, -2, 0], [LONG] * 400], "text": ["1 2", "4 e1 0/1/0", "", "4 e x"],
+    "rows": ["", "window 1 1\nhops\ntimes 1 -1\nlevel 3\nback\nback", "x"],
     "offset": [0, 1, 4], "hop": [1, 2, 3, 7], "windows": [[[1, 2]], [[1, 2], [3], [0, 1]], [[1, 1]] * 8],
     "mark": [2, 3, 30, 420], "rest": [0, 1, 2], "power": [0, 1, 3], "hops": [[1], [2, 3], [6, 4], [2, 1, 2]],
     "length": [1, 2, 5], "most": [1, 2, 4], "index": [0, 1, 5], "level": [0, 2, -6, LONG],
 }
+# Arguments with the names of others whose good values are different ones.
+OWN = {
+    losses.left_sums: {"lost": [[], [-1, 0, 7], list(range(400))]}, Joiner.add: {"self": [a_joiner()] * 2},
+    Joiner.skip: {"self": [a_joiner()] * 2}, Joiner.undo: {"self": [a_joiner()] * 2},
+    Joiner.twin: {"self": [Joiner(3), a_joiner()]},
+}
+
+
+def good_values(call, name):
+    return OWN.get(call, {}).get(name, GOOD[name])
+
+
+def second_good_ones(call):
+    """The arguments that go together."""
+    return [good_values(call, name)[1] for name in NAMES[call]]
 
 
 def good_arguments(call):
-    return [kept(args) for args in itertools.product(*[GOOD[name] for name in NAMES[call]])]
+    return [kept(args) for args in itertools.product(*[good_values(call, name) for name in NAMES[call]])]
 
 
 class Interface(unittest.TestCase):
@@ -211,6 +277,10 @@ class Interface(unittest.TestCase):
             lists: ["folded", "agree", "first_clash", "told_back", "some_list", "has_ring", "ring_of"],
             blocks: ["Deck"],
             streams: ["count_streams", "nth_stream", "stream_index", "fewest_blocks", "a_stream"],
+            losses: ["least_left", "least_left_run", "fewest_harm", "left_sums"],
+            frames: ["first_frame", "frames_of", "samples_of", "signal_back", "Joiner"],
+            texts: ["write_list", "read_list", "write_deck", "read_deck"],
+            session: ["session"],
         }
         for module, names in told.items():
             for name in names:
@@ -226,13 +296,17 @@ class Interface(unittest.TestCase):
             for name in properties:
                 self.assertIsInstance(vars(owner)[name], property)
         self.assertIn("__eq__", vars(Deck))
+        self.assertIn("__len__", vars(Joiner))
 
 
 class WrongArguments(unittest.TestCase):
     def test_first_wrong_one_decides(self):
         for call, places in CALLS.items():
             # Every choice of wrong values for some of the arguments and a good one for the others.
-            choices = [[(None, GOOD[name][1])] + [(error, wrong) for wrong in make()] for name, error, make in places]
+            choices = [
+                [(None, good_values(call, name)[1])] + [(error, wrong) for wrong in make()]
+                for name, error, make in places
+            ]
             for choice in itertools.product(*choices):
                 wrong = [error for error, _ in choice if error is not None]
                 if not wrong:
@@ -252,7 +326,7 @@ class WrongArguments(unittest.TestCase):
         for call, places in CALLS.items():
             for at, (_, error, make) in enumerate(places):
                 for wrong in makers.get(make, make)():
-                    args = [GOOD[name][1] for name in NAMES[call]]
+                    args = second_good_ones(call)
                     args[at] = wrong
                     before = repr(args)
                     self.assertEqual(outcome(call, *args), ("error", error), (call.__name__, args))
@@ -262,7 +336,7 @@ class WrongArguments(unittest.TestCase):
         for call, places in CALLS.items():
             for at, (_, _, make) in enumerate(places):
                 for wrong in make():
-                    args = [GOOD[name][1] for name in NAMES[call]]
+                    args = second_good_ones(call)
                     args[at] = wrong
                     before = kept(args)
                     self.assertEqual(outcome(call, *args)[0], "error", (call.__name__, args))
@@ -271,7 +345,8 @@ class WrongArguments(unittest.TestCase):
 
 class GoodArguments(unittest.TestCase):
     def test_by_position_or_by_name(self):
-        for call, names in NAMES.items():
+        for call in STEADY:
+            names = NAMES[call]
             for args in good_arguments(call):
                 expected = outcome(call, *args)
                 named = dict(zip(names, args))
@@ -283,14 +358,14 @@ class GoodArguments(unittest.TestCase):
                     self.assertTrue(same(outcome(call, args[0], **rest_by_name), expected))
 
     def test_what_is_passed_stays_as_it_was(self):
-        for call in NAMES:
+        for call in STEADY:
             for args in good_arguments(call):
                 before = kept(args)
                 outcome(call, *args)
                 self.assertTrue(same(args, before), call.__name__)
 
     def test_equal_calls_return_equal_results(self):
-        for call in NAMES:
+        for call in STEADY:
             for args in good_arguments(call):
                 first = outcome(call, *args)
                 held = kept(first)
@@ -299,7 +374,7 @@ class GoodArguments(unittest.TestCase):
                 self.assertTrue(same(outcome(call, *kept(args)), held), call.__name__)
 
     def test_returned_lists_are_new(self):
-        for call in NAMES:
+        for call in STEADY:
             for args in good_arguments(call):
                 first, second = outcome(call, *args), outcome(call, *args)
                 lists = lists_in(first[1]) + lists_in(second[1])
@@ -310,7 +385,7 @@ class GoodArguments(unittest.TestCase):
                     self.assertFalse(set(numbers) & {id(one) for one in passed})
 
     def test_results_do_not_change_with_what_was_passed(self):
-        for call in NAMES:
+        for call in STEADY:
             for args in good_arguments(call):
                 result = outcome(call, *args)
                 held = kept(result)
@@ -324,11 +399,18 @@ class GoodArguments(unittest.TestCase):
             "window": window, "thing": window, "other": window, "by": 2, "offset": 1, "hop": 1, "windows": [window] * 2,
             "mark": 3, "rest": 1, "power": 20, "hops": [1, 1], "level": partners.least_level(window, 1) * LONG ** 40,
             "sums": window, "length": 4, "edges": [window], "kinds": [(0, 0, 0)], "kind": 0, "next_kind": 0, "rise": 0,
-            "fall": 0, "stream": [0], "steps": 4, "index": 0,
+            "fall": 0, "stream": [0], "steps": 4, "index": 0, "lost": 1, "begin": LONG ** 3, "end": LONG ** 3 + 400,
+            "signal": window, "frames": frames.frames_of(window, 1, window), "number": 4, "first": -LONG ** 3,
+            "frame": window, "numbers": window,
         }
         good["self"] = good["deck"] = Deck(good["level"], good["edges"], good["kinds"])
         level = partners.least_level(window, 4)
-        own = {marks.order_at: {"hop": 2}, partners.least_partner: {"hop": 4, "level": level}}
+        own = {
+            marks.order_at: {"hop": 2}, partners.least_partner: {"hop": 4, "level": level},
+            losses.fewest_harm: {"window": [abs(entry) for entry in window]},
+            losses.left_sums: {"lost": [-LONG ** 3, LONG ** 3 - 1, LONG ** 3]}, Joiner.add: {"self": Joiner(7)},
+            Joiner.skip: {"self": Joiner(7)}, Joiner.undo: {"self": a_joiner()}, Joiner.twin: {"self": a_joiner()},
+        }
         for call, names in NAMES.items():
             # What remains takes no lists, or only lists whose entries have an upper limit.
             if set(names) <= set(good):

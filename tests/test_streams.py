@@ -238,6 +238,12 @@ class MoreSteps(unittest.TestCase):
             self.assertGreater(plain_steps(deck, stream), 400)
             self.assertEqual(stream_index(made(deck), stream), plain_index(deck, stream))
 
+    def test_kinds_whose_steps_are_more_than_are_left(self):
+        deck = (1, [[]], [(0, 3, 0), (0, 1, 0), (0, 2, 0), (0, 1, 0)])
+        for stream in ([0] * 140 + [1], [0] * 140 + [3], [2] * 210 + [2], [3, 0] * 110 + [2, 3], [2] * 200 + [1, 1, 1]):
+            self.assertGreater(plain_steps(deck, stream), 400)
+            self.assertEqual(stream_index(made(deck), stream), plain_index(deck, stream))
+
 
 def plain_index(parts, stream):
     """How many streams with the same ends and steps are less, by going on from all lists that are less so far."""
