@@ -24,7 +24,8 @@ def laid(pieces, length):
     for begin, entries in pieces:
         for i, entry in enumerate(entries):
             if 0 <= begin + i < length:
-                sums[begin + i] += entry
+                # Not by +=, which may change a thing in place: properties run this, and they change nothing.
+                sums[begin + i] = sums[begin + i] + entry
     return sums
 
 

@@ -12,6 +12,7 @@ LIBRARY = ["math", "heapq", "itertools", "collections"]
 METHODS = """append clear copy count endswith extend find get index insert isalnum isalpha isdigit islower isspace
 isupper items join keys ljust lower lstrip partition pop remove replace reverse rfind rjust rpartition rsplit rstrip
 setdefault split splitlines startswith strip update upper values zfill bit_length __init__""".split()
+MODIFIERS = "append clear extend insert pop remove reverse setdefault sort update add discard".split()
 
 
 def files():
@@ -61,6 +62,91 @@ def names_made(tree):
         if isinstance(node, ast.Assign):
             made.extend(target.id for target in node.targets)
     return made
+
+
+def runnable():
+    """For each file the functions that its names call, and all methods of the package by their names."""
+    own = {name: {} for name in files()}
+    methods = {}
+    for name in files():
+        for node in ast.parse(text_of(name)).body:
+            if isinstance(node, ast.FunctionDef):
+                own[name][node.name] = (name, node)
+            if isinstance(node, ast.ClassDef):
+                for method in methods_of(node):
+                    methods.setdefault(method.name, []).append((name, method))
+    called = {name: dict(own[name]) for name in own}
+    for name in files():
+        for node in imports_of(name):
+            from_file = node.module.partition(".")[2] + ".py"
+            called[name].update({one.name: own[from_file][one.name] for one in node.names
+                                 if one.name in own.get(from_file, {})})
+    return called, methods
+
+
+def run_by(roots):
+    """The functions and methods of roots, and all that they call, directly or through what they call."""
+    called, methods = runnable()
+    found = list(roots)
+    for file, function in found:
+        for node in ast.walk(function):
+            told = []
+            if isinstance(node, ast.Call) and isinstance(node.func, ast.Name):
+                told = [called[file][node.func.id]] if node.func.id in called[file] else []
+            if isinstance(node, ast.Call) and isinstance(node.func, ast.Attribute):
+                told = methods.get(node.func.attr, [])
+            found.extend(one for one in told if one not in found)
+    return found
+
+
+def is_made(value):
+    """Whether an assigned value is a list or dict that did not exist before."""
+    if isinstance(value, ast.BinOp) and isinstance(value.op, ast.Mult):
+        return isinstance(value.left, ast.List)
+    if isinstance(value, ast.Call) and isinstance(value.func, ast.Name):
+        return value.func.id in ["list", "dict", "sorted"]
+    if isinstance(value, ast.Subscript):
+        return isinstance(value.slice, ast.Slice)
+    return isinstance(value, (ast.List, ast.Dict, ast.ListComp, ast.DictComp))
+
+
+def made_by(function):
+    """The variables of a function that are assigned nothing but lists and dicts that it makes."""
+    assigned = [node for node in ast.walk(function) if isinstance(node, ast.Assign) and len(node.targets) == 1]
+    fresh = [node.targets[0] for node in assigned if is_made(node.value)]
+    # What a parameter, a loop or another assignment binds, too, may be somebody else's.
+    others = {node.arg for node in ast.walk(function) if isinstance(node, ast.arg)}
+    for node in ast.walk(function):
+        if isinstance(node, ast.Name) and isinstance(node.ctx, ast.Store) and node not in fresh:
+            others.add(node.id)
+    return {node.id for node in fresh if isinstance(node, ast.Name)} - others
+
+
+def changes_in(function, own):
+    """The rows of a function in which it may change what it did not make, or call what it was handed or holds."""
+    made = made_by(function)
+    rows = []
+    for node in ast.walk(function):
+        if isinstance(node, (ast.Global, ast.Nonlocal, ast.Delete, ast.Yield, ast.YieldFrom, ast.Lambda)):
+            rows.append(node.lineno)
+        if isinstance(node, ast.AugAssign):
+            literal = isinstance(node.value, ast.Constant) and isinstance(node.value.value, int)
+            if not literal or not isinstance(node.target, ast.Name):
+                rows.append(node.lineno)
+        if isinstance(node, ast.Attribute) and isinstance(node.ctx, ast.Store):
+            rows.append(node.lineno)
+        if isinstance(node, ast.Subscript) and isinstance(node.ctx, ast.Store):
+            if not isinstance(node.value, ast.Name) or node.value.id not in made:
+                rows.append(node.lineno)
+        if isinstance(node, ast.Call) and isinstance(node.func, ast.Attribute) and node.func.attr in MODIFIERS:
+            if not isinstance(node.func.value, ast.Name) or node.func.value.id not in made:
+                rows.append(node.lineno)
+        if isinstance(node, ast.Call) and isinstance(node.func, ast.Name):
+            if node.func.id in locals_of(function) or node.func.id not in own + BUILTINS:
+                rows.append(node.lineno)
+        if isinstance(node, ast.Call) and not isinstance(node.func, (ast.Name, ast.Attribute)):
+            rows.append(node.lineno)
+    return rows
 
 
 class Form(unittest.TestCase):
@@ -144,6 +230,18 @@ class Form(unittest.TestCase):
                 if isinstance(node, ast.Call) and isinstance(node.func, ast.Attribute):
                     self.assertNotIn(node.func.attr, ["sort", "discard"], name)
                 self.assertNotIsInstance(node, (ast.Set, ast.SetComp), name)
+
+    def test_what_properties_run_changes_nothing(self):
+        # The same is asked of comparing and of telling the length, as there are properties.
+        quiet = ["__eq__", "__len__"]
+        called, methods = runnable()
+        roots = [one for some in methods.values() for one in some if one[1].decorator_list or one[1].name in quiet]
+        names = {function.name for _, function in roots}
+        self.assertEqual(names, {*quiet, "level", "edges", "kinds", "seen", "ready", "pending"})
+        reached = run_by(roots)
+        self.assertIn("laid", [function.name for _, function in reached])
+        for file, function in reached:
+            self.assertEqual(changes_in(function, list(called[file])), [], (file, function.name))
 
     def test_decorators_stand_over_methods_alone(self):
         for name in files():
